@@ -31,6 +31,13 @@ func joined(a []byte, b []byte) []byte {
 	return append(out, b...)
 }
 
+// bitTurned returns bytes with a bit of one of them turned, in new memory.
+func bitTurned(b []byte, at int, bit int) []byte {
+	out := copied(b)
+	out[at] ^= 1 << bit
+	return out
+}
+
 // sameBytes reports whether a and b have the same bytes; none are the same as nil.
 func sameBytes(a []byte, b []byte) bool {
 	return string(a) == string(b)

@@ -264,8 +264,7 @@ func TestP3ATurnedBitIsNoticed(t *testing.T) {
 		sum := impl.SumOf(b)
 		for i := range b {
 			for bit := 0; bit < 8; bit++ {
-				turned := copied(b)
-				turned[i] ^= 1 << bit
+				turned := bitTurned(b, i, bit)
 				other := impl.SumOf(turned)
 				if other%65535 == sum%65535 || impl.SumFits(turned, sum) {
 					t.Fatal(b, i, bit, sum, other)
