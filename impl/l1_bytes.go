@@ -90,3 +90,10 @@ func sumAdd(sum int, v int) int {
 func sumsToNothing(sum int) bool {
 	return sum == 0 || sum == maxPair
 }
+
+// bytesCopied returns the same bytes in new memory.
+func bytesCopied(b []byte) []byte {
+	out := make([]byte, len(b))
+	copy(out, b)
+	return out
+}
