@@ -75,8 +75,8 @@ func entries(addrs ...int) []impl.NearEntry {
 	return out
 }
 
-// packets returns packets that are kept for addresses, each with other bytes, the first one with none.
-func packets(addrs ...int) []impl.NearHeld {
+// heldFor returns packets that are kept for addresses, each with other bytes, the first one with none.
+func heldFor(addrs ...int) []impl.NearHeld {
 	out := []impl.NearHeld{}
 	for i, addr := range addrs {
 		out = append(out, impl.NearHeld{Addr: addr, Data: mixedBytes(i+addr, i*5)})
@@ -98,12 +98,12 @@ func sampleNears() []impl.Near {
 	}
 	helds := [][]impl.NearHeld{
 		nil,
-		packets(7),
-		packets(8, 7),
-		packets(7, 8, 7),
-		packets(7, 7, 7, 7),
-		packets(8, 7, 9, 7),
-		packets(0, 65535, 1, 0),
+		heldFor(7),
+		heldFor(8, 7),
+		heldFor(7, 8, 7),
+		heldFor(7, 7, 7, 7),
+		heldFor(8, 7, 9, 7),
+		heldFor(0, 65535, 1, 0),
 		{{Addr: 7}, {Addr: 8, Data: filledBytes(255, impl.MaxFrame)}, {Addr: 7, Data: filledBytes(0, impl.MaxFrame)}},
 	}
 	out := []impl.Near{}
@@ -124,9 +124,9 @@ func badNears() []impl.Near {
 		{Known: entries(8, 7, 7)},
 		{Known: entries(0, 0)},
 		{Known: []impl.NearEntry{{Addr: 7, Link: 3, Until: 5}, {Addr: 7, Link: 3, Until: 5}}},
-		{Held: packets(7, 7, 7, 7, 7)},
-		{Held: packets(1, 2, 3, 4, 5, 6, 7)},
-		{Known: entries(1, 2, 3, 4), Held: packets(1, 2, 3, 4, 5)},
+		{Held: heldFor(7, 7, 7, 7, 7)},
+		{Held: heldFor(1, 2, 3, 4, 5, 6, 7)},
+		{Known: entries(1, 2, 3, 4), Held: heldFor(1, 2, 3, 4, 5)},
 	}
 	for _, v := range noAddrs() {
 		out = append(out, impl.Near{Known: entries(v)})
@@ -150,33 +150,33 @@ func badNears() []impl.Near {
 	return out
 }
 
-// entriesCopied and packetsCopied return the same ones in new memory, with room behind them that is filled, so that what is written there would be seen (roomIsKept).
+// entriesCopied and heldCopied return the same ones in new memory, with room behind them that is filled, so that what is written there would be seen (roomIsKept).
 func entriesCopied(known []impl.NearEntry) []impl.NearEntry {
 	out := append([]impl.NearEntry{}, known...)
 	return append(out, entryMark(), entryMark())[:len(known)]
 }
 
-func packetsCopied(held []impl.NearHeld) []impl.NearHeld {
+func heldCopied(held []impl.NearHeld) []impl.NearHeld {
 	out := []impl.NearHeld{}
 	for _, h := range held {
 		room := joined(h.Data, filledBytes(9, 80))
 		out = append(out, impl.NearHeld{Addr: h.Addr, Data: room[:len(h.Data)]})
 	}
-	return append(out, packetMark(), packetMark())[:len(held)]
+	return append(out, heldMark(), heldMark())[:len(held)]
 }
 
-// entryMark and packetMark are what stands in the room behind the lists that are handed in.
+// entryMark and heldMark are what stands in the room behind the lists that are handed in.
 func entryMark() impl.NearEntry {
 	return impl.NearEntry{Addr: 99, Link: 99, Until: 99}
 }
 
-func packetMark() impl.NearHeld {
+func heldMark() impl.NearHeld {
 	return impl.NearHeld{Addr: 99, Data: []byte{9, 9}}
 }
 
 // nearCopied returns the same station in new memory.
 func nearCopied(n impl.Near) impl.Near {
-	return impl.Near{Known: entriesCopied(n.Known), Held: packetsCopied(n.Held)}
+	return impl.Near{Known: entriesCopied(n.Known), Held: heldCopied(n.Held)}
 }
 
 // roomIsKept fails if something was written behind the lists of a station (nearCopied).
@@ -187,7 +187,7 @@ func roomIsKept(t *testing.T, n impl.Near) {
 			t.Fatal("behind what is known", n, e)
 		}
 	}
-	if !samePackets(n.Held[:len(n.Held)+2][len(n.Held):], []impl.NearHeld{packetMark(), packetMark()}) {
+	if !sameHeld(n.Held[:len(n.Held)+2][len(n.Held):], []impl.NearHeld{heldMark(), heldMark()}) {
 		t.Fatal("behind what is kept", n)
 	}
 	for _, h := range n.Held {
@@ -197,7 +197,7 @@ func roomIsKept(t *testing.T, n impl.Near) {
 	}
 }
 
-// sameEntries, samePackets, sameNear and sameSent report whether both are the same; none are the same as nil.
+// sameEntries, sameHeld, sameNear and sameSent report whether both are the same; none are the same as nil.
 func sameEntries(a []impl.NearEntry, b []impl.NearEntry) bool {
 	if len(a) != len(b) {
 		return false
@@ -210,7 +210,7 @@ func sameEntries(a []impl.NearEntry, b []impl.NearEntry) bool {
 	return true
 }
 
-func samePackets(a []impl.NearHeld, b []impl.NearHeld) bool {
+func sameHeld(a []impl.NearHeld, b []impl.NearHeld) bool {
 	if len(a) != len(b) {
 		return false
 	}
@@ -223,7 +223,7 @@ func samePackets(a []impl.NearHeld, b []impl.NearHeld) bool {
 }
 
 func sameNear(a impl.Near, b impl.Near) bool {
-	return sameEntries(a.Known, b.Known) && samePackets(a.Held, b.Held)
+	return sameEntries(a.Known, b.Known) && sameHeld(a.Held, b.Held)
 }
 
 func sameSent(a [][]byte, b [][]byte) bool {
@@ -405,11 +405,11 @@ func TestP99StationsInRangeAreOk(t *testing.T) {
 	for _, n := range sampleNears() {
 		nearOkIs(t, n, true)
 	}
-	nearOkIs(t, impl.Near{Known: entries(1, 2, 3, 4), Held: packets(1, 1, 1, 1)}, true)
+	nearOkIs(t, impl.Near{Known: entries(1, 2, 3, 4), Held: heldFor(1, 1, 1, 1)}, true)
 	nearOkIs(t, impl.Near{Known: []impl.NearEntry{{Addr: 65535, Link: 254, Until: 1000000}}}, true)
 	nearOkIs(t, impl.Near{Held: []impl.NearHeld{{Addr: 65535, Data: filledBytes(255, 64)}}}, true)
 	// One station may have many addresses, and what is known may also be kept for.
-	nearOkIs(t, impl.Near{Known: []impl.NearEntry{{Addr: 1, Link: 3}, {Addr: 2, Link: 3}}, Held: packets(1)}, true)
+	nearOkIs(t, impl.Near{Known: []impl.NearEntry{{Addr: 1, Link: 3}, {Addr: 2, Link: 3}}, Held: heldFor(1)}, true)
 }
 
 func TestP99WhoKnowsAndKeepsNothingIsAStation(t *testing.T) {
@@ -439,7 +439,7 @@ func TestP99InvalidStationsAreNotOk(t *testing.T) {
 	for many := 0; many <= 9; many++ {
 		addrs := []int{1, 2, 3, 4, 5, 6, 7, 8, 9}[:many]
 		nearOkIs(t, impl.Near{Known: entries(addrs...)}, many <= 4)
-		nearOkIs(t, impl.Near{Held: packets(addrs...)}, many <= 4)
+		nearOkIs(t, impl.Near{Held: heldFor(addrs...)}, many <= 4)
 	}
 	for many := 0; many <= 300; many++ {
 		nearOkIs(t, impl.Near{Held: []impl.NearHeld{{Addr: 7}, {Addr: 7, Data: filledBytes(0, many)}}}, many <= 64)
@@ -466,7 +466,7 @@ func TestP100KnownAddresses(t *testing.T) {
 	findIs(t, n, 9, -1, 254)
 	findIs(t, n, 6, 0, -1)
 	findIs(t, impl.Near{}, 7, 0, -1)
-	findIs(t, impl.Near{Held: packets(7)}, 7, 0, -1)
+	findIs(t, impl.Near{Held: heldFor(7)}, 7, 0, -1)
 }
 
 func TestP100WhatIsKnownIsKnownTillItsTime(t *testing.T) {
@@ -543,7 +543,7 @@ func TestP10WhatIsNotKnownIsKept(t *testing.T) {
 }
 
 func TestP10WhatIsKnownIsSentAtOnce(t *testing.T) {
-	n := impl.Near{Known: entries(8, 7), Held: packets(7, 8, 7, 9)}
+	n := impl.Near{Known: entries(8, 7), Held: heldFor(7, 8, 7, 9)}
 	sendIs(t, n, 7, []byte("x"), 100, n, 11)
 	sendIs(t, n, 8, []byte("x"), 99, n, 10)
 	sendIs(t, n, 7, nil, 0, n, 11)
@@ -562,9 +562,9 @@ func TestP10WhatWasKnownTooLongIsKeptFor(t *testing.T) {
 
 func TestP10TheFirstOneGoesIfThereAreTooMany(t *testing.T) {
 	last := impl.NearHeld{Addr: 5, Data: []byte("last")}
-	all := packets(9, 7, 5, 7)
+	all := heldFor(9, 7, 5, 7)
 	for many := 0; many <= 4; many++ {
-		want := append(packetsCopied(all[:many]), last)
+		want := append(heldCopied(all[:many]), last)
 		if many == 4 {
 			want = want[1:]
 		}
@@ -657,7 +657,7 @@ func TestP11WhatWasKeptIsSent(t *testing.T) {
 }
 
 func TestP11WhatNobodyAskedForTurnsNothing(t *testing.T) {
-	for _, n := range []impl.Near{{}, {Known: entries(8, 9)}, {Held: packets(8, 9)}, {Known: entries(1, 2, 3, 4), Held: packets(1, 2, 3, 4)}} {
+	for _, n := range []impl.Near{{}, {Known: entries(8, 9)}, {Held: heldFor(8, 9)}, {Known: entries(1, 2, 3, 4), Held: heldFor(1, 2, 3, 4)}} {
 		for _, now := range []int{0, 10, 999980} {
 			hearIs(t, n, 6, tell(5, 7, 8), now, n, nil)
 			hearIs(t, n, 6, ask(5, 7, 8), now, n, nil)
@@ -682,7 +682,7 @@ func TestP11WhoWantsTheStationIsKnown(t *testing.T) {
 
 func TestP11AStationWithoutAnAddressIsNotWanted(t *testing.T) {
 	for _, own := range noAddrs() {
-		n := impl.Near{Known: entries(2, 3), Held: packets(8)}
+		n := impl.Near{Known: entries(2, 3), Held: heldFor(8)}
 		for _, want := range addrEdges() {
 			hearIs(t, n, own, ask(5, 70, want), 10, n, nil)
 		}
@@ -692,7 +692,7 @@ func TestP11AStationWithoutAnAddressIsNotWanted(t *testing.T) {
 }
 
 func TestP11AnAddressThatMovedIsKnownOfItsNewStation(t *testing.T) {
-	n := impl.Near{Known: entries(7, 8, 9), Held: packets(8)}
+	n := impl.Near{Known: entries(7, 8, 9), Held: heldFor(8)}
 	want := impl.Near{Known: []impl.NearEntry{n.Known[1], n.Known[2], {Addr: 7, Link: 200, Until: 60}}, Held: n.Held}
 	hearIs(t, n, 1, tell(200, 7, 2), 40, want, nil)
 	hearIs(t, n, 1, ask(200, 7, 2), 40, want, nil)
