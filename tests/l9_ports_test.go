@@ -149,11 +149,15 @@ func portsAreKept(t *testing.T, given []impl.Port, list []impl.Port) {
 	}
 }
 
+// betweenBytes returns bytes that go from an address to another one with their sum behind them, whatever they are.
+func betweenBytes(from int, to int, b []byte) []byte {
+	counted := joined([]byte{byte(from / 256), byte(from % 256), byte(to / 256), byte(to % 256)}, b)
+	return joined(b, summed(counted)[len(counted):])
+}
+
 // mailBetween returns the bytes of a message from an address to another one by their definition, whatever its count, ports and addresses are.
 func mailBetween(addr int, to int, told []byte, data []byte) []byte {
-	b := joined(told, data)
-	counted := joined([]byte{byte(addr / 256), byte(addr % 256), byte(to / 256), byte(to % 256)}, b)
-	return joined(b, summed(counted)[len(counted):])
+	return betweenBytes(addr, to, joined(told, data))
 }
 
 // mailAsBytes returns the bytes of a message to an address by their definition.
