@@ -869,7 +869,7 @@ func TestP117ItDoesNotHangOnWhatWasHeard(t *testing.T) {
 	}
 }
 
-// rangesWithRoom, segmentCopied and segmentSpoiled return ranges and a segment in new memory, with room behind each list that is filled, and turn all that there is in a segment, and fill the room behind each list.
+// rangesWithRoom and segmentCopied return ranges and a segment in new memory, with room behind each list that is filled. rangesSpoiled and segmentSpoiled turn all that there is in them, and fill the room behind each list.
 func rangesWithRoom(ranges []impl.Range) []impl.Range {
 	out := append([]impl.Range{}, ranges...)
 	return append(out, impl.Range{From: 99, To: 99}, impl.Range{From: 99, To: 99}, impl.Range{From: 99, To: 99})[:len(ranges)]
@@ -881,27 +881,39 @@ func segmentCopied(s impl.Segment) impl.Segment {
 	return s
 }
 
-func segmentSpoiled(s impl.Segment) {
-	for i := range s.Ranges {
-		s.Ranges[i] = impl.Range{From: 77, To: 77}
+func rangesSpoiled(ranges []impl.Range) {
+	for i := range ranges {
+		ranges[i] = impl.Range{From: 77, To: 77}
 	}
 	for i := 0; i < 10; i++ {
-		s.Ranges = append(s.Ranges, impl.Range{From: 77, To: 77})
+		ranges = append(ranges, impl.Range{From: 77, To: 77})
 	}
+}
+
+func segmentSpoiled(s impl.Segment) {
+	rangesSpoiled(s.Ranges)
 	bytesSpoiled(s.Data)
 }
 
-// segmentIsKept fails if a segment that was handed in (segmentCopied) was written, or the room behind it.
+// rangesAreKept and segmentIsKept fail if ranges (rangesWithRoom) or a segment (segmentCopied) that were handed in were written, or the room behind them.
+func rangesAreKept(t *testing.T, given []impl.Range, ranges []impl.Range) {
+	t.Helper()
+	if !sameRanges(given, ranges) {
+		t.Fatal("the ranges were written", ranges, given)
+	}
+	for _, r := range given[:len(ranges)+3][len(ranges):] {
+		if r.From != 99 || r.To != 99 {
+			t.Fatal("behind the ranges", ranges)
+		}
+	}
+}
+
 func segmentIsKept(t *testing.T, given impl.Segment, s impl.Segment) {
 	t.Helper()
 	if !sameSegment(given, s) {
 		t.Fatal("the segment was written", s, given)
 	}
-	for _, r := range given.Ranges[:len(s.Ranges)+3][len(s.Ranges):] {
-		if r.From != 99 || r.To != 99 {
-			t.Fatal("behind the ranges", s)
-		}
-	}
+	rangesAreKept(t, given.Ranges, s.Ranges)
 	if !sameBytes(given.Data[:len(s.Data)+80][len(s.Data):], filledBytes(9, 80)) {
 		t.Fatal("behind the bytes of the segment", s)
 	}
